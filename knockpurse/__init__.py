@@ -1,0 +1,1 @@
+"""Knockpurse: runners that knock at houses that may keep silent."""
