@@ -1,7 +1,7 @@
 """One asking: knocks by a plan at a house with a story (points 3.1 to 3.6)."""
 
 from knockpurse.gaps import beats_of, gaps_good
-from knockpurse.stories import silent_at, stretches_of
+from knockpurse.stories import healed_at, silent_at, stretches_of
 from knockpurse.wholes import choices, is_whole, whole_in
 
 MOST_KNOCKS = 200
@@ -59,7 +59,7 @@ def widest_of(plan):
 def least_silence(plan):
     """How many beats long the shortest single stretch is by which some asking is lost."""
     # It must reach from the first knock to the last one, wherever the asking begins.
-    return knocks_of(plan, 0)[-1] + 1
+    return healed_at(hardest(plan, 0))
 
 
 def hardest(plan, begin):
@@ -69,8 +69,8 @@ def hardest(plan, begin):
 
 def lost_many(plan, n, m):
     """By how many of the stories that are silent at just m of n beats an asking is lost."""
-    beats = knocks_of(plan, 0)
-    if beats[-1] >= n:
+    if least_silence(plan) > n:
         return 0
     # All its knocks fall on silent beats; the other silent beats lie anywhere else.
-    return choices(n - len(beats), m - len(beats))
+    knocks = len(knocks_of(plan, 0))
+    return choices(n - knocks, m - knocks)
