@@ -2,7 +2,7 @@
 
 from knockpurse.gaps import beats_of, gaps_good
 from knockpurse.stories import healed_at, silent_at, stretches_of
-from knockpurse.wholes import choices, is_whole, whole_in
+from knockpurse.wholes import choices, same, whole_in
 
 MOST_KNOCKS = 200
 MOST_TIME = 400000
@@ -36,10 +36,7 @@ def run_of(plan, story, begin):
 
 def run_good(plan, story, begin, thing):
     """Whether a thing of whatever kind is just the run of an asking."""
-    if not isinstance(thing, tuple) or len(thing) != 2 or not isinstance(thing[0], tuple):
-        return False
-    # To Python True is like 1, so it must be told apart ahead.
-    return all([is_whole(beat) for beat in thing[0]]) and thing == run_of(plan, story, begin)
+    return same(thing, run_of(plan, story, begin))
 
 
 def served_by(plan, begin, h):

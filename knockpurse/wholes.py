@@ -1,4 +1,4 @@
-"""What the other modules share: which things are whole numbers, and how many choices there are."""
+"""What the other modules share: which things are whole numbers, which are alike, and how many choices there are."""
 
 LAST_BEAT = 1000000
 
@@ -19,6 +19,16 @@ def wholes_in(thing, bounds):
     if not isinstance(thing, tuple) or len(thing) != len(bounds):
         return False
     return all([whole_in(number, least, most) for number, (least, most) in zip(thing, bounds)])
+
+
+def same(thing, wanted):
+    """Whether a thing of whatever kind is just the wanted one, of tuples, texts, whole numbers and None."""
+    if isinstance(wanted, tuple):
+        if not isinstance(thing, tuple) or len(thing) != len(wanted):
+            return False
+        return all([same(part, wanted_part) for part, wanted_part in zip(thing, wanted)])
+    # To Python True is like 1, so it must be told apart.
+    return thing == wanted and not isinstance(thing, bool)
 
 
 def choices(n, k):

@@ -4,7 +4,7 @@ import copy
 import inspect
 import unittest
 
-from knockpurse import asking, gaps, stories
+from knockpurse import asking, callers, gaps, gates, handed, purses, stories
 from tests.things import GREAT, HUGE, outcome, whatever
 
 INTERFACE = {
@@ -26,6 +26,33 @@ INTERFACE = {
         "run_good": ["plan", "story", "begin", "thing"], "served_by": ["plan", "begin", "h"], "widest_of": ["plan"],
         "least_silence": ["plan"], "hardest": ["plan", "begin"], "lost_many": ["plan", "n", "m"],
     },
+    purses: {
+        "purse_good": ["thing"], "coins_behind": ["purse", "row"], "paid_in": ["purse", "row"],
+        "unpaid_at": ["purse", "row"], "far_behind": ["purse", "row"], "most_paid": ["purse", "n"],
+        "most_between": ["purse", "n"], "best_row": ["purse", "n"], "parts": ["one", "other", "thing"],
+        "parted_by": ["one", "other"], "later": ["purse", "coins"],
+    },
+    gates: {
+        "gate_good": ["thing"], "standing_good": ["gate", "thing"], "lets": ["gate", "standing", "beat"],
+        "heard": ["gate", "standing", "beat", "answered"], "come_along": ["gate", "story", "beats"],
+        "most_let": ["gate", "n"], "row_for": ["gate", "n"], "open_from": ["gate", "h"],
+    },
+    handed: {
+        "road_good": ["thing"], "times_of": ["road", "time"], "turned_at": ["road", "time"], "least_time": ["road"],
+        "vain_of": ["road", "time"], "blind_of": ["road", "time"], "ordered": ["road", "order"], "best_order": ["road"],
+        "least_vain": ["road", "time"], "done_by_time": ["need", "askings"], "done_blindly": ["need", "askings"],
+        "vain_askings": ["need", "askings"], "schedule_good": ["need", "askings", "thing"],
+        "most_served": ["need", "askings"], "schedule_for": ["need", "askings"],
+    },
+    callers: {
+        "caller_good": ["thing"], "first_of": ["caller"], "stepped": ["caller", "standing", "sound", "many"],
+        "gone": ["caller", "askings", "story"], "gone_good": ["caller", "askings", "story", "thing"],
+        "most_tries": ["caller", "many"], "served_from": ["caller", "story"],
+    },
+}
+CLASSES = {
+    purses.Purse: (["purse"], {"ask": [], "knock": [], "held": []}),
+    gates.Gate: (["gate"], {"come": ["beat"], "hear": ["beat", "answered"], "stands": []}),
 }
 
 SLOW = (3, 2, 1, 50)
@@ -33,6 +60,13 @@ PLAN = (SLOW, 4, 25)
 STORY = ((0, 14), (20, 21))
 COMB = tuple((2 * at + 1, 2 * at + 2) for at in range(200))
 LOOKS = ((9, "silent"), (7, "sound"), (5, "silent"))
+PURSE = (2, 3, 7, 4)
+GATE = (3, 4, 2, 10, 2)
+ROAD = ((3, 2), (4, 0), (1, 5))
+ASKED = ((0, 9), (2, 8), (2, 30), (3, 4))
+CALLER = (PLAN, PURSE, GATE)
+GONE = callers.gone(CALLER, (0, 0, 5), STORY)
+STANDING = callers.stepped(CALLER, callers.first_of(CALLER), False, 3)[0]
 
 QUESTIONS = [
     (gaps.gaps_good, SLOW), (gaps.gaps_good, list(SLOW)), (gaps.gap_at, SLOW, 3), (gaps.gap_at, SLOW, GREAT),
@@ -55,6 +89,30 @@ QUESTIONS = [
     (asking.run_good, PLAN, STORY, 0, ((0, 3, 10, 25), "served")), (asking.run_good, PLAN, STORY, 0, [[0], ["x"]]),
     (asking.served_by, PLAN, 10, 14), (asking.served_by, PLAN, 10, 99), (asking.widest_of, PLAN),
     (asking.least_silence, PLAN), (asking.hardest, PLAN, 10), (asking.lost_many, PLAN, 200, 30),
+    (purses.purse_good, PURSE), (purses.purse_good, [PURSE]), (purses.coins_behind, PURSE, "aakkk"),
+    (purses.coins_behind, PURSE, ["a"]), (purses.paid_in, PURSE, "aakkk"), (purses.paid_in, PURSE, "ab"),
+    (purses.unpaid_at, PURSE, "kakkk"), (purses.unpaid_at, PURSE, {"k": []}),
+    (purses.far_behind, PURSE, (("a", 10 ** 12), ("k", 1))), (purses.far_behind, PURSE, [["a", 1]]),
+    (purses.most_paid, PURSE, 10 ** 12), (purses.most_between, PURSE, 10 ** 12), (purses.best_row, PURSE, 40),
+    (purses.best_row, (1000, 1, 10000, 0), 1), (purses.parts, PURSE, (2, 3, 6, 4), "aakk"), (purses.parts, PURSE, PURSE, ["k"]),
+    (purses.parted_by, PURSE, (2, 3, 6, 4)), (purses.parted_by, PURSE, PURSE), (purses.parted_by, PURSE, (2, 3, 61, 4)),
+    (purses.later, PURSE, 7), (purses.later, PURSE, [7]),
+    (gates.gate_good, GATE), (gates.gate_good, [GATE]), (gates.standing_good, GATE, ("shut", 5, 4)),
+    (gates.standing_good, GATE, ["shut", {5: 4}]), (gates.lets, GATE, ("shut", 5, 4), 5), (gates.lets, GATE, ("shut", 5, 4), 4),
+    (gates.heard, GATE, ("open", 2), 9, False), (gates.heard, GATE, ("trying", 1, 4), 9, True),
+    (gates.heard, GATE, ("shut", 5, 4), 9, True), (gates.come_along, GATE, STORY, [0, 0, 3, 3, 8, 14, 30]),
+    (gates.most_let, GATE, GREAT), (gates.row_for, GATE, 60), (gates.row_for, (1, 1, 1, 1, 1), 201),
+    (gates.open_from, GATE, 7), (handed.road_good, ROAD), (handed.road_good, [ROAD, {}]), (handed.times_of, ROAD, 9),
+    (handed.turned_at, ROAD, 9), (handed.turned_at, ROAD, 10), (handed.least_time, ROAD), (handed.vain_of, ROAD, 9),
+    (handed.blind_of, ROAD, 7), (handed.ordered, ROAD, (2, 0, 1)), (handed.ordered, ROAD, [2, 0, 1]), (handed.best_order, ROAD),
+    (handed.least_vain, ROAD, 9), (handed.least_vain, ROAD * 3, 9), (handed.done_by_time, 5, ASKED),
+    (handed.done_blindly, 5, ASKED), (handed.vain_askings, 5, ASKED), (handed.schedule_good, 5, ASKED, ((0, 0), (1, 5))),
+    (handed.schedule_good, 5, ASKED, [[0, 0]]), (handed.most_served, 5, ASKED), (handed.schedule_for, 5, ASKED),
+    (callers.caller_good, CALLER), (callers.caller_good, [CALLER, []]), (callers.first_of, CALLER),
+    (callers.stepped, CALLER, STANDING, False, 2), (callers.stepped, CALLER, STANDING, True, 0),
+    (callers.gone, CALLER, (0, 0, 5), STORY), (callers.gone_good, CALLER, (0, 0, 5), STORY, GONE),
+    (callers.gone_good, CALLER, (0, 0, 5), STORY, [list(GONE)]), (callers.most_tries, CALLER, 1000000),
+    (callers.served_from, CALLER, STORY),
 ]
 
 
@@ -69,6 +127,12 @@ class Interface(unittest.TestCase):
                 signature = inspect.signature(getattr(module, name))
                 self.assertEqual(list(signature.parameters), arguments, name)
                 self.assertTrue(all(one.default is one.empty for one in signature.parameters.values()), name)
+
+    def test_classes_and_methods(self):
+        for made, (arguments, methods) in CLASSES.items():
+            self.assertEqual(list(inspect.signature(made).parameters), arguments)
+            for name, taken in methods.items():
+                self.assertEqual(list(inspect.signature(getattr(made, name)).parameters), ["self"] + taken, name)
 
     def test_each_function_is_among_the_questions(self):
         asked = {question[0] for question in QUESTIONS}
@@ -106,7 +170,10 @@ class Fairness(unittest.TestCase):
                     self.assertEqual(function(*args), wanted)
 
     def test_only_lists_that_the_interface_names_can_be_changed(self):
-        lists = {gaps.beats_of, gaps.shaken, stories.stories_with, asking.knocks_of}
+        lists = {
+            gaps.beats_of, gaps.shaken, stories.stories_with, asking.knocks_of, purses.unpaid_at, gates.row_for,
+            handed.times_of, handed.done_by_time, handed.done_blindly,
+        }
         for function, *args in QUESTIONS:
             if outcome(function, args)[0] == "told":
                 self.assertIs(isinstance(function(*args), list), function in lists)
@@ -125,7 +192,7 @@ class Fairness(unittest.TestCase):
     def test_a_refusal_changes_nothing(self):
         told = [question for question in QUESTIONS if ask(question)[0] == "told"]
         refused = [question for question in QUESTIONS if ask(question)[0] == "refused"]
-        self.assertEqual(len(refused), 11)
+        self.assertEqual(len(refused), 22)
         answers = [ask(question) for question in told]
         for question in refused:
             ask(question)
@@ -140,6 +207,69 @@ class Fairness(unittest.TestCase):
         self.assertIs(asking.run_good(PLAN, story, 0, asking.run_of(PLAN, story, 0)), True)
         self.assertEqual(stories.either(story, stories.later_by(story, 1)), ((0, 2), (3, 5), (10, 12), (25, 27)))
 
+    def test_what_the_later_stages_told_may_be_handed_in_again(self):
+        row = purses.best_row(PURSE, 9)
+        self.assertEqual(purses.paid_in(PURSE, row), purses.most_paid(PURSE, 9))
+        self.assertIs(purses.purse_good(purses.later(PURSE, purses.coins_behind(PURSE, row))), True)
+        other = (2, 3, 6, 4)
+        self.assertIs(purses.parts(PURSE, other, purses.parted_by(PURSE, other)), True)
+        comings = gates.row_for(GATE, 60)
+        standing = gates.come_along(GATE, ((0, 99),), comings)[1]
+        self.assertIs(gates.standing_good(GATE, standing), True)
+        self.assertEqual(gates.lets(GATE, standing, 0), (False, standing))
+        road = handed.ordered(ROAD, handed.best_order(ROAD))
+        self.assertIs(handed.road_good(road), True)
+        self.assertIs(handed.schedule_good(5, ASKED, handed.schedule_for(5, ASKED)), True)
+        self.assertIs(callers.gone_good(CALLER, (0, 0, 5), STORY, callers.gone(CALLER, (0, 0, 5), STORY)), True)
+
+    def test_lists_handed_in_may_be_changed_behind_the_call(self):
+        beats = [0, 0, 0, 1]
+        told = gates.come_along(GATE, STORY, beats)
+        kept = copy.deepcopy(told)
+        beats.clear()
+        self.assertEqual(told, kept)
+        self.assertEqual(gates.come_along(GATE, STORY, [0, 0, 0, 1]), kept)
+
+    def test_told_lists_of_one_call_are_not_those_of_another(self):
+        one, other = purses.unpaid_at(PURSE, "kkk"), handed.times_of(ROAD, 9)
+        one.clear()
+        other.clear()
+        self.assertEqual((purses.unpaid_at(PURSE, "kkk"), handed.times_of(ROAD, 9)), ([1, 2], [9, 4, 0]))
+
+
+class Objects(unittest.TestCase):
+    def deeds(self, between):
+        """What a new Purse and a new Gate answer to the same deeds, with something done between each two."""
+        purse, gate = purses.Purse(PURSE), gates.Gate(GATE)
+        answers = []
+        for beat in range(30):
+            if beat % 4 == 0:
+                purse.ask()
+            between()
+            if gate.come(beat):
+                gate.hear(beat, beat > 20)
+                answers.append(purse.knock())
+            between()
+            answers += [outcome(gate.hear, [beat - 1, True]), outcome(gate.come, [[beat]]), purse.held(), gate.stands()]
+        return answers
+
+    def test_the_same_deeds_have_the_same_answers(self):
+        def ask_all():
+            for question in QUESTIONS[::5]:
+                ask(question)
+
+        def go_on_with_others():
+            other.come(3)
+            outcome(other.hear, [3, False])
+            spender.ask()
+            spender.knock()
+
+        other, spender = gates.Gate(GATE), purses.Purse(PURSE)
+        wanted = self.deeds(lambda: None)
+        self.assertEqual(self.deeds(ask_all), wanted)
+        self.assertEqual(self.deeds(go_on_with_others), wanted)
+        self.assertEqual(self.deeds(lambda: self.deeds(lambda: None)), wanted)
+
 
 class WholeNumbers(unittest.TestCase):
     def test_truths_are_no_whole_numbers(self):
@@ -153,6 +283,20 @@ class WholeNumbers(unittest.TestCase):
         self.assertEqual(ask((stories.story_for, ((True, "silent"),))), ("refused", "NoStep", {}))
         self.assertEqual(ask((gaps.shakes_for, SLOW, [False, 3])), ("refused", "NoNumber", {}))
 
+    def test_truths_are_no_whole_numbers_in_later_stages(self):
+        self.assertIs(purses.purse_good((True, True, True, False)), False)
+        self.assertIs(gates.gate_good((True,) * 5), False)
+        self.assertIs(gates.standing_good(GATE, ("open", True)), False)
+        self.assertIs(handed.road_good(((True, False),)), False)
+        self.assertIs(handed.schedule_good(5, ASKED, ((False, False),)), False)
+        self.assertIs(callers.caller_good((PLAN, PURSE, (True, 4, 2, 10, 2))), False)
+        self.assertIs(callers.gone_good(CALLER, (0,), (), (((False, False, "served", None),), (("served", False),))), False)
+        self.assertEqual(ask((purses.far_behind, PURSE, (("a", True),))), ("refused", "NoStep", {}))
+        self.assertEqual(ask((purses.later, PURSE, True)), ("refused", "NoNumber", {}))
+        self.assertEqual(ask((handed.ordered, ROAD[:2], (False, True))), ("refused", "NoStep", {}))
+        self.assertEqual(outcome(gates.Gate(GATE).come, [False]), ("refused", "NoNumber", {}))
+        self.assertEqual(outcome(gates.Gate(GATE).hear, [True, True]), ("refused", "NoNumber", {}))
+
     def test_a_hundred_figures(self):
         for number in (HUGE, -HUGE):
             self.assertIs(gaps.gaps_good((number,) * 4), False)
@@ -161,12 +305,22 @@ class WholeNumbers(unittest.TestCase):
             self.assertIs(asking.run_good(PLAN, (), 0, ((number,), "served")), False)
             self.assertIs(stories.holds((), ((number, "sound"),)), False)
             self.assertEqual(ask((stories.story_of, [number])), ("refused", "NoStory", {"number": 0}))
+            self.assertIs(purses.purse_good((0, 1, number, 0)), False)
+            self.assertIs(gates.gate_good((number,) * 5), False)
+            self.assertIs(gates.standing_good(GATE, ("shut", number, 4)), False)
+            self.assertIs(handed.road_good(((number, number),)), False)
+            self.assertIs(handed.schedule_good(5, ASKED, ((0, number),)), False)
+            self.assertIs(callers.caller_good((PLAN, PURSE, (number, 4, 2, 10, 2))), False)
+            self.assertEqual(ask((purses.later, PURSE, number)), ("refused", "NoNumber", {}))
 
     def test_whatever_is_told_of_with_a_truth(self):
         for thing in whatever():
             for answer in (
                 gaps.gaps_good(thing), stories.story_good(thing), stories.holds(STORY, thing),
-                asking.plan_good(thing), asking.run_good(PLAN, STORY, 0, thing),
+                asking.plan_good(thing), asking.run_good(PLAN, STORY, 0, thing), purses.purse_good(thing),
+                purses.parts(PURSE, (2, 3, 6, 4), thing), gates.gate_good(thing), gates.standing_good(GATE, thing),
+                handed.road_good(thing), handed.schedule_good(5, ASKED, thing), callers.caller_good(thing),
+                callers.gone_good(CALLER, (0, 0, 5), STORY, thing),
             ):
                 self.assertIn(repr(answer), ("True", "False"))
 
@@ -175,6 +329,10 @@ class WholeNumbers(unittest.TestCase):
             for question, name in (
                 ((gaps.shakes_for, SLOW, thing), "NoNumber"), ((stories.story_of, [thing]), "NoStory"),
                 ((stories.story_at, thing, 3), "NoNumber"), ((stories.story_for, thing), "NoStep"),
+                ((purses.coins_behind, PURSE, thing), "NoStep"), ((purses.paid_in, PURSE, thing), "NoStep"),
+                ((purses.unpaid_at, PURSE, thing), "NoStep"), ((purses.far_behind, PURSE, thing), "NoStep"),
+                ((purses.later, PURSE, thing), "NoNumber"), ((handed.ordered, ROAD, thing), "NoStep"),
+                ((gates.Gate(GATE).come, thing), "NoNumber"), ((gates.Gate(GATE).hear, thing, True), "NoNumber"),
             ):
                 answer = ask(question)
                 self.assertIn(answer[0] if answer[0] == "told" else answer[1], ("told", name))

@@ -109,6 +109,15 @@ class Language(unittest.TestCase):
             if isinstance(node, ast.Attribute):
                 self.assertIn(node.attr, METHODS | given, place)
 
+    def test_no_name_is_a_method_here_and_a_value_there(self):
+        methods, values = [], []
+        for _, node in nodes():
+            if isinstance(node, ast.ClassDef):
+                methods += [one.name for one in node.body if isinstance(one, ast.FunctionDef)]
+            if isinstance(node, ast.Attribute) and isinstance(node.ctx, ast.Store):
+                values.append(node.attr)
+        self.assertEqual(set(methods) & set(values), set())
+
     def test_imports(self):
         tops = {f"knockpurse.{path.stem}": names_at_top(tree) for path, tree in trees()}
         for place, node in nodes():
