@@ -12,12 +12,17 @@ SERVED = "served"
 LOST = "lost"
 
 
+def caller_plan_good(thing):
+    """Whether a thing of whatever kind is a plan of a caller."""
+    return plan_good(thing) and thing[2] <= MOST_TIME
+
+
 def caller_good(thing):
     """Whether a thing of whatever kind is a caller."""
     if not isinstance(thing, tuple) or len(thing) != 3:
         return False
     plan, purse, gate = thing
-    return plan_good(plan) and plan[2] <= MOST_TIME and purse_good(purse) and gate_good(gate)
+    return caller_plan_good(plan) and purse_good(purse) and gate_good(gate)
 
 
 def first_of(caller):

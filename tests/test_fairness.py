@@ -4,7 +4,7 @@ import copy
 import inspect
 import unittest
 
-from knockpurse import asking, callers, gaps, gates, handed, purses, stories
+from knockpurse import asking, callers, desk, gaps, gates, handed, purses, rows, stories, texts, worst
 from tests.things import GREAT, HUGE, outcome, whatever
 
 INTERFACE = {
@@ -49,10 +49,26 @@ INTERFACE = {
         "gone": ["caller", "askings", "story"], "gone_good": ["caller", "askings", "story", "thing"],
         "most_tries": ["caller", "many"], "served_from": ["caller", "story"],
     },
+    worst: {
+        "told_of": ["caller", "beginnings", "story"], "most_knocks": ["caller", "beginnings"],
+        "fewest_served": ["caller", "beginnings"], "worst_story": ["caller", "beginnings"],
+        "fewest_story": ["caller", "beginnings"], "marks_good": ["caller", "beginnings", "k", "thing"],
+        "marks_for": ["caller", "beginnings", "k"], "least_silent": ["caller", "beginnings"],
+        "losing_story": ["caller", "beginnings"], "calm_from": ["caller", "beginnings"],
+        "more_by": ["one", "other", "beginnings"],
+    },
+    rows: {
+        "row_good": ["thing"], "go_down": ["row", "story", "begin"], "go_good": ["row", "story", "begin", "thing"],
+        "most_down": ["row"], "beats_needed": ["row"], "calm_row": ["row", "most"], "once_at": ["row", "places"],
+    },
+    texts: {
+        "caller_shown": ["caller"], "story_shown": ["story"], "caller_read": ["text"], "story_read": ["text"],
+    },
 }
 CLASSES = {
     purses.Purse: (["purse"], {"ask": [], "knock": [], "held": []}),
     gates.Gate: (["gate"], {"come": ["beat"], "hear": ["beat", "answered"], "stands": []}),
+    desk.Desk: (["caller"], {"say": ["row"]}),
 }
 
 SLOW = (3, 2, 1, 50)
@@ -67,6 +83,14 @@ ASKED = ((0, 9), (2, 8), (2, 30), (3, 4))
 CALLER = (PLAN, PURSE, GATE)
 GONE = callers.gone(CALLER, (0, 0, 5), STORY)
 STANDING = callers.stepped(CALLER, callers.first_of(CALLER), False, 3)[0]
+SHORT = ((0, 2), (3, 4))
+BEGINNINGS = (2, 0, 1, 3)
+OTHER = ((SLOW, 2, 25), PURSE, (1, 4, 2, 10, 2))
+MOST = worst.most_knocks(CALLER, BEGINNINGS)
+MARKS = worst.marks_for(CALLER, BEGINNINGS, MOST)
+ROW = (PLAN, (SLOW, 2, 9))
+DOWN = rows.go_down(ROW, STORY, 3)
+TEXT = texts.caller_shown(CALLER)
 
 QUESTIONS = [
     (gaps.gaps_good, SLOW), (gaps.gaps_good, list(SLOW)), (gaps.gap_at, SLOW, 3), (gaps.gap_at, SLOW, GREAT),
@@ -113,6 +137,18 @@ QUESTIONS = [
     (callers.gone, CALLER, (0, 0, 5), STORY), (callers.gone_good, CALLER, (0, 0, 5), STORY, GONE),
     (callers.gone_good, CALLER, (0, 0, 5), STORY, [list(GONE)]), (callers.most_tries, CALLER, 1000000),
     (callers.served_from, CALLER, STORY),
+    (worst.told_of, CALLER, BEGINNINGS, SHORT), (worst.most_knocks, CALLER, BEGINNINGS), (worst.fewest_served, CALLER, BEGINNINGS),
+    (worst.worst_story, CALLER, BEGINNINGS), (worst.fewest_story, CALLER, BEGINNINGS), (worst.marks_for, CALLER, BEGINNINGS, MOST),
+    (worst.marks_for, CALLER, BEGINNINGS, MOST - 1), (worst.marks_good, CALLER, BEGINNINGS, MOST, MARKS),
+    (worst.marks_good, CALLER, BEGINNINGS, MOST - 1, MARKS), (worst.marks_good, CALLER, BEGINNINGS, MOST, [[{}]]),
+    (worst.least_silent, CALLER, BEGINNINGS), (worst.losing_story, CALLER, BEGINNINGS), (worst.least_silent, CALLER, (0,)),
+    (worst.losing_story, CALLER, (0,)), (worst.calm_from, CALLER, BEGINNINGS), (worst.more_by, CALLER, OTHER, BEGINNINGS),
+    (worst.more_by, CALLER, CALLER, BEGINNINGS), (rows.row_good, ROW), (rows.row_good, [ROW]), (rows.go_down, ROW, STORY, 3),
+    (rows.go_good, ROW, STORY, 3, DOWN), (rows.go_good, ROW, STORY, 3, [list(DOWN)]), (rows.most_down, ROW),
+    (rows.beats_needed, ROW), (rows.calm_row, ROW, 3), (rows.once_at, ROW, (1,)), (rows.once_at, ROW, [1]),
+    (rows.once_at, ROW, (2,)), (texts.caller_shown, CALLER), (texts.story_shown, STORY), (texts.caller_read, TEXT),
+    (texts.caller_read, [TEXT]), (texts.caller_read, TEXT + " 1"), (texts.story_read, "story 0-2 3-4"),
+    (texts.story_read, {"story": [TEXT]}), (texts.story_read, "story 0-0"),
 ]
 
 
@@ -172,11 +208,12 @@ class Fairness(unittest.TestCase):
     def test_only_lists_that_the_interface_names_can_be_changed(self):
         lists = {
             gaps.beats_of, gaps.shaken, stories.stories_with, asking.knocks_of, purses.unpaid_at, gates.row_for,
-            handed.times_of, handed.done_by_time, handed.done_blindly,
+            handed.times_of, handed.done_by_time, handed.done_blindly, worst.marks_for,
         }
         for function, *args in QUESTIONS:
             if outcome(function, args)[0] == "told":
-                self.assertIs(isinstance(function(*args), list), function in lists)
+                if function(*args) is not None:
+                    self.assertIs(isinstance(function(*args), list), function in lists)
                 self.assertNotIsInstance(function(*args), (dict, set))
 
     def test_what_is_done_behind_a_call_changes_nothing(self):
@@ -192,7 +229,7 @@ class Fairness(unittest.TestCase):
     def test_a_refusal_changes_nothing(self):
         told = [question for question in QUESTIONS if ask(question)[0] == "told"]
         refused = [question for question in QUESTIONS if ask(question)[0] == "refused"]
-        self.assertEqual(len(refused), 22)
+        self.assertEqual(len(refused), 28)
         answers = [ask(question) for question in told]
         for question in refused:
             ask(question)
@@ -222,6 +259,30 @@ class Fairness(unittest.TestCase):
         self.assertIs(handed.schedule_good(5, ASKED, handed.schedule_for(5, ASKED)), True)
         self.assertIs(callers.gone_good(CALLER, (0, 0, 5), STORY, callers.gone(CALLER, (0, 0, 5), STORY)), True)
 
+    def test_what_the_last_stages_told_may_be_handed_in_again(self):
+        story = worst.worst_story(CALLER, BEGINNINGS)
+        self.assertIs(stories.story_good(story), True)
+        self.assertEqual(worst.told_of(CALLER, BEGINNINGS, story)[1], MOST)
+        self.assertIs(worst.marks_good(CALLER, BEGINNINGS, MOST, worst.marks_for(CALLER, BEGINNINGS, MOST)), True)
+        standing = worst.told_of(CALLER, BEGINNINGS, story)[0]
+        self.assertEqual(callers.stepped(CALLER, standing, True, 0)[0][0], len(BEGINNINGS) + 1)
+        row = rows.once_at(ROW, rows.calm_row(ROW, 4))
+        self.assertIs(rows.row_good(row), True)
+        self.assertIs(rows.go_good(row, story, 0, rows.go_down(row, story, 0)), True)
+        caller = texts.caller_read(texts.caller_shown(CALLER))
+        self.assertIs(callers.caller_good(caller), True)
+        self.assertEqual(desk.Desk(caller).say("shown"), TEXT.replace("\n", " ; "))
+        self.assertEqual(stories.either(texts.story_read(texts.story_shown(story)), story), story)
+
+    def test_marks_handed_in_may_be_changed_behind_the_call(self):
+        marks = worst.marks_for(CALLER, BEGINNINGS, MOST)
+        self.assertIs(worst.marks_good(CALLER, BEGINNINGS, MOST, marks), True)
+        marks[1].reverse()
+        marks[2].append("spoiled")
+        self.assertIs(worst.marks_good(CALLER, BEGINNINGS, MOST, marks), False)
+        self.assertIs(worst.marks_good(CALLER, BEGINNINGS, MOST, MARKS), True)
+        self.assertEqual(worst.marks_for(CALLER, BEGINNINGS, MOST), MARKS)
+
     def test_lists_handed_in_may_be_changed_behind_the_call(self):
         beats = [0, 0, 0, 1]
         told = gates.come_along(GATE, STORY, beats)
@@ -239,8 +300,8 @@ class Fairness(unittest.TestCase):
 
 class Objects(unittest.TestCase):
     def deeds(self, between):
-        """What a new Purse and a new Gate answer to the same deeds, with something done between each two."""
-        purse, gate = purses.Purse(PURSE), gates.Gate(GATE)
+        """What a new Purse, Gate and Desk answer to the same deeds, with something done between each two."""
+        purse, gate, kept = purses.Purse(PURSE), gates.Gate(GATE), desk.Desk(CALLER)
         answers = []
         for beat in range(30):
             if beat % 4 == 0:
@@ -251,6 +312,9 @@ class Objects(unittest.TestCase):
                 answers.append(purse.knock())
             between()
             answers += [outcome(gate.hear, [beat - 1, True]), outcome(gate.come, [[beat]]), purse.held(), gate.stands()]
+            for row in (f"silent {beat} {beat + 2}", "ask 2", "go 2", "step", "back", "back", "step", [beat], "waiting", "gate"):
+                answers.append(outcome(kept.say, [row]))
+                between()
         return answers
 
     def test_the_same_deeds_have_the_same_answers(self):
@@ -263,8 +327,11 @@ class Objects(unittest.TestCase):
             outcome(other.hear, [3, False])
             spender.ask()
             spender.knock()
+            third.say("silent 1000 1001")
+            third.say("back")
+            outcome(third.say, ["ask 1"])
 
-        other, spender = gates.Gate(GATE), purses.Purse(PURSE)
+        other, spender, third = gates.Gate(GATE), purses.Purse(PURSE), desk.Desk(CALLER)
         wanted = self.deeds(lambda: None)
         self.assertEqual(self.deeds(ask_all), wanted)
         self.assertEqual(self.deeds(go_on_with_others), wanted)
@@ -297,6 +364,17 @@ class WholeNumbers(unittest.TestCase):
         self.assertEqual(outcome(gates.Gate(GATE).come, [False]), ("refused", "NoNumber", {}))
         self.assertEqual(outcome(gates.Gate(GATE).hear, [True, True]), ("refused", "NoNumber", {}))
 
+    def test_truths_are_no_whole_numbers_in_the_last_stages(self):
+        spoiled = [[(standing, mark == 1 if mark < 2 else mark) for standing, mark in entries] for entries in MARKS]
+        self.assertEqual(spoiled, MARKS)
+        self.assertIs(worst.marks_good(CALLER, BEGINNINGS, MOST, spoiled), False)
+        self.assertIs(rows.row_good(((SLOW, True, True),)), False)
+        self.assertIs(rows.go_good(((SLOW, 1, 0),), (), 0, (("served", False), (False,), (True,))), False)
+        self.assertEqual(ask((rows.once_at, ROW, (False, True))), ("refused", "NoNumber", {}))
+        self.assertEqual(ask((texts.caller_read, True)), ("refused", "NoText", {"row": 0}))
+        self.assertEqual(ask((texts.story_read, False)), ("refused", "NoText", {"row": 0}))
+        self.assertEqual(outcome(desk.Desk(CALLER).say, [True]), ("refused", "NoLine", {}))
+
     def test_a_hundred_figures(self):
         for number in (HUGE, -HUGE):
             self.assertIs(gaps.gaps_good((number,) * 4), False)
@@ -312,6 +390,12 @@ class WholeNumbers(unittest.TestCase):
             self.assertIs(handed.schedule_good(5, ASKED, ((0, number),)), False)
             self.assertIs(callers.caller_good((PLAN, PURSE, (number, 4, 2, 10, 2))), False)
             self.assertEqual(ask((purses.later, PURSE, number)), ("refused", "NoNumber", {}))
+            self.assertIs(worst.marks_good(CALLER, (0,), 0, [[(number, number)], [(number, number)]]), False)
+            self.assertIs(rows.row_good(((SLOW, number, 5),)), False)
+            self.assertIs(rows.go_good(ROW, STORY, 3, (("served", number), (number,), (1, 1))), False)
+            self.assertEqual(ask((rows.once_at, ROW, (number,))), ("refused", "NoNumber", {}))
+            self.assertEqual(ask((texts.story_read, f"story 0-{number}")), ("refused", "NoText", {"row": 1}))
+            self.assertEqual(outcome(desk.Desk(CALLER).say, [f"ask {number}"]), ("refused", "NoLine", {}))
 
     def test_whatever_is_told_of_with_a_truth(self):
         for thing in whatever():
@@ -320,7 +404,8 @@ class WholeNumbers(unittest.TestCase):
                 asking.plan_good(thing), asking.run_good(PLAN, STORY, 0, thing), purses.purse_good(thing),
                 purses.parts(PURSE, (2, 3, 6, 4), thing), gates.gate_good(thing), gates.standing_good(GATE, thing),
                 handed.road_good(thing), handed.schedule_good(5, ASKED, thing), callers.caller_good(thing),
-                callers.gone_good(CALLER, (0, 0, 5), STORY, thing),
+                callers.gone_good(CALLER, (0, 0, 5), STORY, thing), worst.marks_good(CALLER, BEGINNINGS, MOST, thing),
+                rows.row_good(thing), rows.go_good(ROW, STORY, 3, thing),
             ):
                 self.assertIn(repr(answer), ("True", "False"))
 
@@ -333,6 +418,8 @@ class WholeNumbers(unittest.TestCase):
                 ((purses.unpaid_at, PURSE, thing), "NoStep"), ((purses.far_behind, PURSE, thing), "NoStep"),
                 ((purses.later, PURSE, thing), "NoNumber"), ((handed.ordered, ROAD, thing), "NoStep"),
                 ((gates.Gate(GATE).come, thing), "NoNumber"), ((gates.Gate(GATE).hear, thing, True), "NoNumber"),
+                ((rows.once_at, ROW, thing), "NoNumber"), ((texts.caller_read, thing), "NoText"),
+                ((texts.story_read, thing), "NoText"), ((desk.Desk(CALLER).say, thing), "NoLine"),
             ):
                 answer = ask(question)
                 self.assertIn(answer[0] if answer[0] == "told" else answer[1], ("told", name))

@@ -133,6 +133,34 @@ class Language(unittest.TestCase):
             names = names_at_top(tree)
             self.assertEqual(len(names), len(set(names)), path)
 
+    def test_no_local_is_called_like_an_import_or_a_class_of_its_file(self):
+        for path, tree in trees():
+            taken = {name.name for node in tree.body if isinstance(node, ast.ImportFrom) for name in node.names}
+            taken |= {node.name for node in tree.body if isinstance(node, ast.ClassDef)}
+            for node in ast.walk(tree):
+                if isinstance(node, ast.Name) and not isinstance(node.ctx, ast.Load):
+                    self.assertNotIn(node.id, taken, path)
+                if isinstance(node, ast.arg):
+                    self.assertNotIn(node.arg, taken, path)
+
+    def test_lists_and_dicts_of_a_top_are_only_read(self):
+        for path, tree in trees():
+            kept = {
+                target.id for node in tree.body if isinstance(node, ast.Assign) and isinstance(node.value, (ast.List, ast.Dict))
+                for target in node.targets
+            }
+            read = set()
+            for node in ast.walk(tree):
+                if isinstance(node, ast.Subscript) and isinstance(node.ctx, ast.Load):
+                    read.add(node.value)
+                if isinstance(node, ast.Compare):
+                    read.update(node.comparators)
+                if isinstance(node, ast.Attribute) and node.attr == "get":
+                    read.add(node.value)
+            for node in ast.walk(tree):
+                if isinstance(node, ast.Name) and isinstance(node.ctx, ast.Load) and node.id in kept:
+                    self.assertIn(node, read, f"{path.name}:{node.lineno}")
+
     def test_imports_do_not_lead_back(self):
         drawn = {
             path.stem: {node.module.split(".")[1] for node in ast.walk(tree) if isinstance(node, ast.ImportFrom)}
